@@ -1,0 +1,1 @@
+"""Trueagain: steps left out where what they saw is true again."""
