@@ -4,18 +4,41 @@ import importlib
 import inspect
 import unittest
 
-from trueagain.worlds import World, changes_between
+from trueagain.books import Book, two_steps
+from trueagain.judging import alike, is_reason, outcomes, parting, pruned, reasons
+from trueagain.rules import Fault, Rule, loose, wrong
 from trueagain.sights import apart, bars, follows, is_sight, least, sure, world_of
+from trueagain.steps import Run, Step
+from trueagain.worlds import World, changes_between
 
 FUNCTIONS = {
     "worlds": {"changes_between": ["one", "other"]},
     "sights": {"is_sight": ["thing"], "bars": ["one", "other"], "apart": ["sights"], "world_of": ["sights"],
                "follows": ["sights", "sight"], "least": ["sights"], "sure": ["sights", "look"]},
+    "judging": {"outcomes": ["step"], "parting": ["one", "other"], "alike": ["one", "other"], "pruned": ["step"],
+                "reasons": ["step", "run"], "is_reason": ["step", "run", "numbers"]},
+    "books": {"two_steps": ["book", "world"]},
+    "rules": {"loose": ["rule", "run"], "wrong": ["rule", "run", "world"]},
 }
-METHODS = {("worlds", "World"): {
-    "__init__": ["self", "files", "settings", "tool"], "files": ["self"], "settings": ["self"],
-    "answer": ["self", "look"], "after": ["self", "changes"], "__len__": ["self"],
-    "__contains__": None, "__eq__": None}}
+METHODS = {
+    ("worlds", "World"): {
+        "__init__": ["self", "files", "settings", "tool"], "files": ["self"], "settings": ["self"],
+        "answer": ["self", "look"], "after": ["self", "changes"], "__len__": ["self"],
+        "__contains__": None, "__eq__": None},
+    ("steps", "Step"): {
+        "__init__": ["self", "tree"], "tree": ["self"], "looks": ["self"], "run": ["self", "world"], "__eq__": None},
+    ("steps", "Run"): {
+        "__init__": ["self", "sights", "outcome"], "note": ["self"], "holds": ["self", "world"], "__len__": ["self"],
+        "__eq__": None},
+    ("books", "Book"): {
+        "__init__": ["self", "runs"], "runs": ["self"], "more": ["self", "run"], "says": ["self", "world"],
+        "way": ["self", "world"], "__iter__": ["self"], "__len__": ["self"], "__eq__": None},
+    ("rules", "Rule"): {
+        "__init__": ["self", "sorts"], "sorts": ["self"], "note": ["self", "run"], "leaves": ["self", "run", "world"],
+        "keeps": ["self", "other"], "__or__": None, "__and__": None, "__invert__": ["self"], "__iter__": ["self"],
+        "__len__": ["self"], "__contains__": None, "__eq__": None},
+    ("rules", "Fault"): {"__init__": ["self", "changes", "behind", "step"]},
+}
 
 
 class TestInterface(unittest.TestCase):
@@ -51,9 +74,40 @@ class TestInterface(unittest.TestCase):
         self.assertEqual(least(sights=[sight]), [sight])
         self.assertEqual(sure(sights=[sight], look=("read", "a")), ("x",))
 
+    def test_steps_by_name(self):
+        step = Step(tree=("ask", ("read", "a"), [("x", ("end", "good"))], ("end", "bad")))
+        world = World({"a": "x"})
+        run = step.run(world=world)
+        self.assertEqual(run, Run(sights=[(("read", "a"), "x")], outcome="good"))
+        self.assertIs(run.holds(world=world), True)
+        self.assertEqual(outcomes(step=step), ["bad", "good"])
+        self.assertIsNone(parting(one=step, other=step))
+        self.assertIs(alike(one=step, other=step), True)
+        self.assertEqual(pruned(step=step), step)
+        self.assertEqual(reasons(step=step, run=run), [(0,)])
+        self.assertIs(is_reason(step=step, run=run, numbers=[0]), True)
+
+    def test_books_and_rules_by_name(self):
+        world = World({"a": "x"})
+        run = Run([(("read", "a"), "x")], "good")
+        book = Book(runs=[run])
+        self.assertEqual(book.more(run=run), book)
+        self.assertEqual(book.says(world=world), "good")
+        self.assertEqual(book.way(world=world), list(run.sights))
+        self.assertEqual(len(two_steps(book=book, world=World({}))), 2)
+        rule = Rule(sorts=["contents"])
+        self.assertEqual(rule.note(run=run), list(run.sights))
+        self.assertIs(rule.leaves(run=run, world=world), True)
+        self.assertIs(rule.keeps(other=rule), True)
+        self.assertEqual(loose(rule=rule, run=run), [])
+        self.assertIsNone(wrong(rule=rule, run=run, world=world))
+        fault = Fault(changes=(), behind=world, step=None)
+        self.assertEqual((fault.changes, fault.behind, fault.step), ((), world, None))
+
     def test_defaults(self):
         world = World({})
         self.assertEqual((world.settings(), world.tool), ({}, ""))
+        self.assertEqual(Book().runs(), [])
 
 
 if __name__ == "__main__":

@@ -57,3 +57,11 @@ def name_numbered(number):
         name = LETTERS[number % len(LETTERS)] + name
         number = number // len(LETTERS)
     return name
+
+
+def name_not_in(words):
+    """Return the first of these names that is none of some words."""
+    number = 0
+    while name_numbered(number) in words:
+        number += 1
+    return name_numbered(number)
