@@ -120,10 +120,10 @@ def check_has(step, run):
 
 
 def barring_others(step, run):
-    """List for all ways to other outcomes the numbers of the sights of a run that bar them.
+    """List for ways to other outcomes the numbers of the sights of a run that bar them.
 
     Sights that go together bar a way only if one of them alone does, so they are a reason
-    exactly if there is one of them in each row.
+    exactly if there is one of them in each row. A row with another one as its part tells nothing.
     """
     seen = nothing_seen([step.tree()])
     rows = {}
@@ -131,7 +131,11 @@ def barring_others(step, run):
         if outcome != run.outcome:
             rows[tuple([index for index, sight in enumerate(run.sights)
                         if with_answer(below, sight[0], sight[1]) is None])] = True
-    return list(rows)
+    barring = []
+    for row in sorted(rows, key=len):
+        if not has_part(row, barring):
+            barring.append(row)
+    return barring
 
 
 def seen_at_ends(tree, seen):
