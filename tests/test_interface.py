@@ -6,9 +6,12 @@ import unittest
 
 from trueagain.books import Book, two_steps
 from trueagain.judging import alike, is_reason, outcomes, parting, pruned, reasons
+from trueagain.marks import Marks
+from trueagain.patterns import matches, missed
 from trueagain.rules import Fault, Rule, loose, wrong
 from trueagain.sights import apart, bars, follows, is_sight, least, sure, world_of
 from trueagain.steps import Run, Step
+from trueagain.ties import Ties
 from trueagain.worlds import World, changes_between
 
 FUNCTIONS = {
@@ -19,6 +22,7 @@ FUNCTIONS = {
                 "reasons": ["step", "run"], "is_reason": ["step", "run", "numbers"]},
     "books": {"two_steps": ["book", "world"]},
     "rules": {"loose": ["rule", "run"], "wrong": ["rule", "run", "world"]},
+    "patterns": {"matches": ["pattern", "path"], "missed": ["patterns", "pattern"]},
 }
 METHODS = {
     ("worlds", "World"): {
@@ -38,6 +42,13 @@ METHODS = {
         "keeps": ["self", "other"], "__or__": None, "__and__": None, "__invert__": ["self"], "__iter__": ["self"],
         "__len__": ["self"], "__contains__": None, "__eq__": None},
     ("rules", "Fault"): {"__init__": ["self", "changes", "behind", "step"]},
+    ("marks", "Marks"): {
+        "__init__": ["self", "rule"], "add": ["self", "run"], "runs": ["self"], "found": ["self", "world"],
+        "strays": ["self", "world"], "clash": ["self"], "__iter__": ["self"], "__len__": ["self"]},
+    ("ties", "Ties"): {
+        "__init__": ["self", "patterns", "settings", "tool"], "key": ["self", "world"], "leaves": ["self", "before", "now"],
+        "holds": ["self", "world", "sight"], "loose": ["self", "run", "world"], "wrong": ["self", "run", "world"],
+        "needless": ["self", "run", "world"]},
 }
 
 
@@ -104,10 +115,27 @@ class TestInterface(unittest.TestCase):
         fault = Fault(changes=(), behind=world, step=None)
         self.assertEqual((fault.changes, fault.behind, fault.step), ((), world, None))
 
+    def test_marks_patterns_and_ties_by_name(self):
+        world = World({"a": "x"})
+        run = Run([(("read", "a"), "x")], "good")
+        marks = Marks(rule=Rule([]))
+        self.assertIsNone(marks.add(run=run))
+        self.assertEqual((marks.found(world=world), marks.strays(world=World({}))), ([0], [0]))
+        self.assertIs(matches(pattern="*", path="a"), True)
+        self.assertIsNone(missed(patterns=["*"], pattern="a"))
+        ties = Ties(patterns=["a"], settings=["s"], tool=True)
+        self.assertEqual(ties.key(world=world), ((("a", "x"),), (("s", None),), ""))
+        self.assertIs(ties.leaves(before=world, now=world), True)
+        self.assertIs(ties.holds(world=world, sight=(("read", "a"), "x")), True)
+        self.assertEqual(ties.loose(run=run, world=world), [])
+        self.assertIsNone(ties.wrong(run=run, world=world))
+        self.assertEqual(ties.needless(run=run, world=world)[0], "tool")
+
     def test_defaults(self):
         world = World({})
         self.assertEqual((world.settings(), world.tool), ({}, ""))
         self.assertEqual(Book().runs(), [])
+        self.assertEqual(Ties(["a"]).key(World({"a": ""}, {"s": ""}, "7")), ((("a", ""),), (), None))
 
 
 if __name__ == "__main__":
