@@ -9,9 +9,13 @@ from trueagain.judging import alike, is_reason, outcomes, parting, pruned, reaso
 from trueagain.marks import Marks
 from trueagain.patterns import matches, missed
 from trueagain.rules import Fault, Rule, loose, wrong
+from trueagain.run_texts import read_run, write_run
 from trueagain.sights import apart, bars, follows, is_sight, least, sure, world_of
 from trueagain.steps import Run, Step
+from trueagain.telling import fitting, surely, tests
 from trueagain.ties import Ties
+from trueagain.tools import Tool
+from trueagain.works import Work, again_needed
 from trueagain.worlds import World, changes_between
 
 FUNCTIONS = {
@@ -23,6 +27,9 @@ FUNCTIONS = {
     "books": {"two_steps": ["book", "world"]},
     "rules": {"loose": ["rule", "run"], "wrong": ["rule", "run", "world"]},
     "patterns": {"matches": ["pattern", "path"], "missed": ["patterns", "pattern"]},
+    "works": {"again_needed": ["names", "runs", "world"]},
+    "telling": {"fitting": ["trials"], "surely": ["trials"], "tests": ["run", "world"]},
+    "run_texts": {"write_run": ["run"], "read_run": ["text"]},
 }
 METHODS = {
     ("worlds", "World"): {
@@ -49,6 +56,13 @@ METHODS = {
         "__init__": ["self", "patterns", "settings", "tool"], "key": ["self", "world"], "leaves": ["self", "before", "now"],
         "holds": ["self", "world", "sight"], "loose": ["self", "run", "world"], "wrong": ["self", "run", "world"],
         "needless": ["self", "run", "world"]},
+    ("works", "Work"): {
+        "__init__": ["self", "parts"], "names": ["self"], "run": ["self", "world"], "again": ["self", "runs", "world", "rule"],
+        "__len__": ["self"]},
+    ("tools", "Tool"): {
+        "__init__": ["self", "step", "rule", "world"], "change": ["self", "change"], "ask": ["self"], "branch": ["self", "name"],
+        "go": ["self", "name"], "world": ["self"], "at": ["self"], "branches": ["self"], "runs": ["self"], "last": ["self"],
+        "is_true": ["self"], "undo": ["self"], "copy": ["self"]},
 }
 
 
@@ -130,6 +144,33 @@ class TestInterface(unittest.TestCase):
         self.assertEqual(ties.loose(run=run, world=world), [])
         self.assertIsNone(ties.wrong(run=run, world=world))
         self.assertEqual(ties.needless(run=run, world=world)[0], "tool")
+
+    def test_works_telling_tools_and_texts_by_name(self):
+        world = World({"a": "x"})
+        step = Step(("end", "good"))
+        run = step.run(world)
+        work = Work(parts=[("s", step)])
+        self.assertEqual(work.run(world=world), [run])
+        self.assertEqual(work.again(runs=[run], world=world, rule=Rule([])), [("left", run)])
+        self.assertEqual(again_needed(names=["s"], runs=[run], world=world), ["left"])
+        self.assertEqual((fitting(trials=[(run, world, False)]), surely(trials=[]), tests(run=run, world=world)), ([], ([], []), []))
+        live = Tool(step=step, rule=Rule([]), world=world)
+        live.change(change=("drop", "a"))
+        live.branch(name="b")
+        live.go(name="main")
+        self.assertEqual(live.branches(), ["main", "b"])
+        self.assertEqual(read_run(text=write_run(run=run)), run)
+
+    def test_nothing_equals_an_object_of_another_kind(self):
+        world, step, rule = World({"a": "x"}), Step(("end", "good")), Rule([])
+        run = step.run(world)
+        things = [world, step, run, Book([run]), rule, Fault((), world, step), Marks(rule), Ties([]), Work([]), Tool(step, rule, world)]
+        things += [None, 0, False, "", (), [], {}, ("end", "good"), [run], [()], {"a": "x"}]
+        for at, one in enumerate(things[:10]):
+            for other in things[:at] + things[at + 1:]:
+                self.assertFalse(one == other)
+                self.assertTrue(one != other)
+            self.assertTrue(one == one)
 
     def test_defaults(self):
         world = World({})

@@ -3,9 +3,9 @@
 import random
 import unittest
 from itertools import product
-from time import perf_counter
 
 from test_sights import listed, read, setting, tool
+from timed import Timed
 from trueagain.books import Book, two_steps
 from trueagain.judging import alike, is_reason, outcomes, parting, pruned, reasons
 from trueagain.rules import SORTS, Rule, loose, wrong
@@ -13,7 +13,6 @@ from trueagain.sights import world_of
 from trueagain.steps import Run, Step
 from trueagain.worlds import World
 
-MOMENT = 5
 NAMES = ["".join(letters) for letters in product("abcdefg", repeat=2)][:40]
 PATHS = ["/".join(row) for count in (1, 2, 3) for row in product("abc", repeat=count)]
 LOOKS = [("read", path) for path in PATHS] + [("list", path) for path in PATHS[:12]]
@@ -57,14 +56,7 @@ def chain(sights, outcome, other):
     return tree
 
 
-class TestSizes(unittest.TestCase):
-
-    def soon(self, call, *things):
-        """What a call returns within a moment."""
-        start = perf_counter()
-        told = call(*things)
-        self.assertLess(perf_counter() - start, MOMENT, (call, things))
-        return told
+class TestSizes(Timed):
 
     def check_step(self, step, world):
         run = self.soon(step.run, world)

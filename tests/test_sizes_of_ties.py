@@ -2,10 +2,10 @@
 
 import random
 import unittest
-from time import perf_counter
 
 from test_sights import setting
-from test_sizes import MOMENT, NAMES, full_world
+from test_sizes import NAMES, full_world
+from timed import Timed
 from told import drawn_pattern, is_told
 from trueagain.marks import Marks
 from trueagain.patterns import matches, missed
@@ -21,14 +21,7 @@ HARD = [["**/a/**/b/**/c", "**/b/**/c/**/a", "**/c/**/a/**/b", "**/a/*/*/*/*", "
         ["a/*/*/*/*/*", "a/*/*/*/*/**", "*/a/**/*/*/a", "**/a/*/a/**/*", "*/*/a/**/a/*"]]
 
 
-class TestSizes(unittest.TestCase):
-
-    def soon(self, call, *things):
-        """What a call returns within a moment."""
-        start = perf_counter()
-        told = call(*things)
-        self.assertLess(perf_counter() - start, MOMENT, (call, things))
-        return told
+class TestSizes(Timed):
 
     def test_patterns_of_six_parts(self):
         patterns = [pattern for row in HARD for pattern in row]

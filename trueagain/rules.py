@@ -106,8 +106,8 @@ def sort_of(sight):
 def undoing(sight, run, world):
     """Return as few changes as possible behind which a sight is untrue.
 
-    Other sights of the run from which it does not follow, and which are of other sorts, stay
-    true: a new file has a name that none of them tells of, or is the one that was lacking.
+    Other sights of the run from which it does not follow stay true: a new file has a name that
+    none of them tells of, or is the one that was lacking.
     """
     look, answer = sight
     if look[0] == "tool":
